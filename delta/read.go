@@ -27,7 +27,7 @@ func parts(r *code.Reader) api.Op {
 	left := octet()
 	if left > api.MaxComps {
 		r.Fail(api.ErrMany) // ahead of the parts: that they are cut must not be told instead
-		left = 0
+		return nil
 	}
 next:
 	if left == 0 {
