@@ -125,7 +125,8 @@ func (c *script) entry(s State) api.Entry {
 	}
 	switch n := c.next(); {
 	case n > 240:
-		e.S.Body = append(e.S.Body[:c.next()%len(e.S.Body)], c.b[:min(len(c.b), c.next())]...)
+		front, behind := c.next()%len(e.S.Body), c.next()
+		e.S.Body = append(e.S.Body[:front], c.b[:min(len(c.b), behind)]...)
 		e = chained(s.Hash, e)
 	case n > 220:
 		e.Hash[c.next()%32] ^= byte(n)
@@ -137,6 +138,7 @@ func FuzzDo(f *testing.F) {
 	f.Add([]byte{})
 	f.Add([]byte("put a text, add somebody, remove somebody, and so on, as the bytes have it"))
 	f.Add([]byte{9, 0, 1, 0, 0, 0, 0, 0, 0, 10, 9, 0, 1, 1, 0, 0, 12, 0, 0, 9, 0, 1, 2, 0, 0, 12, 0, 255, 255, 3})
+	f.Add([]byte("000000100000\xf100000000000")) // a body that is cut off, with other bytes behind it
 	f.Fuzz(func(t *testing.T, b []byte) {
 		c := &script{b}
 		s, p := start(api.Id{Host: c.next() % 3, N: c.next() % 100}, c.user())
